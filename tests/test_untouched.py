@@ -1,0 +1,74 @@
+"""Nothing that is handed in is changed, and the same question has the same answer again."""
+
+import copy
+import unittest
+
+from wordwishes import marks, rowtexts, signs
+from wordwishes.errors import WishError
+
+THINGS = [
+    ["a", "b"],
+    [("a", "b"), ["a", "b"]],
+    [["a", 0], ["b", 1]],
+    (["a", "b"],),
+    (("a", ["b"]),),
+    ([], {}, {"a": ["b"]}),
+    {"a": [("a", 0)]},
+    [[[]]],
+]
+
+ORDER = (("a", "b"), ("b", "c"))
+ROW = (("a", 0), ("b", 1), ("a", 0), ("c", 1))
+
+OF_ANY_THING = [marks.is_mark, marks.is_order, signs.is_row, rowtexts.read_row]
+
+QUESTIONS = [
+    lambda: marks.at_most(ORDER, "a", "c"),
+    lambda: signs.leads(ORDER, ROW[0], ROW[2]),
+    lambda: signs.right_wish(ROW),
+    lambda: signs.left_wish(ROW),
+    lambda: signs.mirror(ROW),
+    lambda: rowtexts.show_row(ROW),
+    lambda: rowtexts.read_row("a b.r a c.r"),
+]
+
+
+def answer(question, *things):
+    try:
+        return question(*things)
+    except WishError as error:
+        return error.__class__
+
+
+def spoil(told):
+    """Changes every list and dict in what was told."""
+    if isinstance(told, (list, tuple)):
+        for part in told:
+            spoil(part)
+    if isinstance(told, list):
+        told.append("spoilt")
+    if isinstance(told, dict):
+        told["spoilt"] = "spoilt"
+
+
+class UntouchedTest(unittest.TestCase):
+    def test_things_that_are_handed_in_stay_as_they_are(self):
+        for question in OF_ANY_THING:
+            for thing in THINGS:
+                with self.subTest(question=question, thing=thing):
+                    before = copy.deepcopy(thing)
+                    first = answer(question, thing)
+                    self.assertEqual(thing, before)
+                    self.assertEqual(answer(question, thing), first)
+
+    def test_what_is_told_is_the_askers_own(self):
+        for number, question in enumerate(QUESTIONS):
+            with self.subTest(number):
+                told = question()
+                kept = copy.deepcopy(told)
+                spoil(told)
+                self.assertEqual(question(), kept)
+
+
+if __name__ == "__main__":
+    unittest.main()

@@ -1,0 +1,1 @@
+"""Wordwishes: signs that cancel, and rows of words that are sentences."""
