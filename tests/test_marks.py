@@ -2,7 +2,7 @@ import itertools
 import unittest
 
 from tests.things import NUMBERS, TUPLES, odd_things
-from wordwishes.marks import at_most, is_mark, is_order
+from wordwishes.marks import at_most, hanging_with, is_mark, is_order
 
 CHAIN = (("a", "b"), ("b", "c"), ("c", "d"))
 
@@ -129,6 +129,16 @@ class AtMostTest(unittest.TestCase):
         order = tuple([(low, high) for low, high in zip(marks, marks[1:])])
         self.assertIs(at_most(order, "a", "p"), True)
         self.assertIs(at_most(order, "p", "a"), False)
+
+
+class HangingWithTest(unittest.TestCase):
+    def test_by_pairs_gone_either_way(self):
+        order = (("a", "b"), ("c", "b"), ("d", "c"), ("x", "y"))
+        for mark in "abcd":
+            self.assertEqual(sorted(hanging_with(order, mark)), ["a", "b", "c", "d"])
+        self.assertEqual(sorted(hanging_with(order, "y")), ["x", "y"])
+        self.assertEqual(hanging_with(order, "z"), ["z"])
+        self.assertEqual(hanging_with((), "a"), ["a"])
 
 
 if __name__ == "__main__":

@@ -3,7 +3,7 @@
 import copy
 import unittest
 
-from wordwishes import marks, rowtexts, signs
+from wordwishes import arcs, lexicons, lexicontexts, marks, rowtexts, signs, walks
 from wordwishes.errors import WishError
 
 THINGS = [
@@ -20,7 +20,19 @@ THINGS = [
 ORDER = (("a", "b"), ("b", "c"))
 ROW = (("a", 0), ("b", 1), ("a", 0), ("c", 1))
 
-OF_ANY_THING = [marks.is_mark, marks.is_order, signs.is_row, rowtexts.read_row]
+LEXICON = (ORDER, "c", (("w", (ROW, ())), ("v", (ROW[:1],))))
+TEXT = "goal c; a < b; b < c; w: a b.r a c.r | 1; v: a"
+
+OF_ANY_THING = [
+    marks.is_mark,
+    marks.is_order,
+    signs.is_row,
+    rowtexts.read_row,
+    lexicons.is_lexicon,
+    lexicontexts.read_lexicon,
+    lambda thing: walks.gone(ORDER, ROW, (("cancel", 0), thing)),
+    lambda thing: arcs.is_drawing(ORDER, ROW, thing),
+]
 
 QUESTIONS = [
     lambda: marks.at_most(ORDER, "a", "c"),
@@ -30,6 +42,16 @@ QUESTIONS = [
     lambda: signs.mirror(ROW),
     lambda: rowtexts.show_row(ROW),
     lambda: rowtexts.read_row("a b.r a c.r"),
+    lambda: lexicons.kinds_of(LEXICON, "w"),
+    lambda: lexicons.marks_of(LEXICON),
+    lambda: lexicontexts.show_lexicon(LEXICON),
+    lambda: lexicontexts.read_lexicon(TEXT),
+    lambda: walks.gone(ORDER, ROW, (("cancel", 0),)),
+    lambda: walks.cancels_in(ORDER, ROW),
+    lambda: arcs.drawing_of(ORDER, ROW),
+    lambda: arcs.ways(ORDER, ROW),
+    lambda: arcs.why_not(ORDER, ROW),
+    lambda: arcs.why_not(ORDER, ROW[1:3]),
 ]
 
 

@@ -1,4 +1,4 @@
-"""Marks, orders, and which mark is at most another one."""
+"""Marks, orders, which mark is at most another one, and which hang together."""
 
 from wordwishes.things import is_short_word, is_tuple_of
 
@@ -35,3 +35,8 @@ def reached_from(pairs, mark):
 def at_most(order, one, other):
     """Whether the one mark is at most the other by the order."""
     return other in reached_from(order, one)
+
+
+def hanging_with(order, mark):
+    """The marks that hang together with this one by the pairs, gone either way; itself among them."""
+    return reached_from(order + tuple([(high, low) for low, high in order]), mark)
