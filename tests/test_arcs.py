@@ -3,6 +3,7 @@ import random
 import unittest
 
 from tests.things import NUMBERS, TEXTS, odd_things
+from tests.trials import Papers, chance_row, drawings_by_trial
 from wordwishes.arcs import drawing_of, is_drawing, ways, why_not
 from wordwishes.signs import cancel, right_wish
 from wordwishes.walks import gone
@@ -12,38 +13,6 @@ ORDER = (("a", "b"), ("c", "b"))
 
 def plain(turns):
     return tuple([("a", turn) for turn in turns])
-
-
-def pairings(numbers):
-    """All ways to part the numbers into pairs, whatever crosses."""
-    if not numbers:
-        return [()]
-    first, rest = numbers[0], numbers[1:]
-    told = []
-    for at, mate in enumerate(rest):
-        told.extend([((first, mate),) + more for more in pairings(rest[:at] + rest[at + 1 :])])
-    return told
-
-
-def crosses(one, other):
-    return one[0] < other[0] < one[1] < other[1]
-
-
-def drawings_by_trial(order, row):
-    """All drawings of the row, by the words of the document, by trial of all pairings."""
-    if len(row) % 2 == 1:
-        return []
-    return [
-        arcs
-        for arcs in pairings(tuple(range(len(row))))
-        if all([cancel(order, row[i], row[j]) for i, j in arcs])
-        and not any([crosses(one, other) for one in arcs for other in arcs])
-    ]
-
-
-def chance_row(chance, most):
-    many = chance.randrange(most + 1)
-    return tuple([(chance.choice("abcd"), chance.randrange(-2, 3)) for at in range(many)])
 
 
 def chance_whole_row(chance, many):
@@ -263,57 +232,14 @@ class DrawingOfTest(unittest.TestCase):
         self.assertIsNone(drawing_of((), row[1:]))
 
 
-class WhyNotTest(unittest.TestCase):
-    def closed_shows(self, order, row, pairs):
-        """Each rule that the document tells of ("closed", pairs)."""
-        many = len(row)
-        self.assertIsInstance(pairs, tuple)
-        for pair in pairs:
-            self.assertIsInstance(pair, tuple)
-            i, j = pair
-            self.assertEqual({i.__class__, j.__class__}, {int})
-            self.assertTrue(0 <= i <= j <= many)
-        for one, other in zip(pairs, pairs[1:]):
-            self.assertLess(one, other)
-        there = set(pairs)
-        for at in range(many + 1):
-            self.assertIn((at, at), there)
-        for i, j in pairs:
-            for k in range(many + 1):
-                if (j, k) in there:
-                    self.assertIn((i, k), there)
-            if i > 0 and j < many and cancel(order, row[i - 1], row[j]):
-                self.assertIn((i - 1, j + 1), there)
-        self.assertNotIn((0, many), there)
-
-    def counted_shows(self, order, row, mark):
-        """Each rule that the document tells of ("counted", mark)."""
-        self.assertIsInstance(mark, str)
-        together = {mark}
-        for time in range(len(order) + 1):
-            for low, high in order:
-                if low in together or high in together:
-                    together |= {low, high}
-        turns = [turn for known, turn in row if known in together]
-        even = [turn for turn in turns if turn % 2 == 0]
-        self.assertNotEqual(len(even), len(turns) - len(even))
-
-    def shows(self, order, row, paper):
-        self.assertIsInstance(paper, tuple)
-        self.assertEqual(len(paper), 2)
-        self.assertIn(paper[0], ["closed", "counted"])
-        if paper[0] == "closed":
-            self.closed_shows(order, row, paper[1])
-        else:
-            self.counted_shows(order, row, paper[1])
-
+class WhyNotTest(Papers, unittest.TestCase):
     def looked_at(self, order, row):
         """Tells which form the paper has, or None."""
         paper = why_not(order, row)
         if drawing_of(order, row) is not None:
             self.assertIsNone(paper)
             return None
-        self.shows(order, row, paper)
+        self.row_paper_shows(order, row, paper)
         return paper[0]
 
     def test_none_where_the_row_cancels_wholly(self):

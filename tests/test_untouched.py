@@ -3,7 +3,19 @@
 import copy
 import unittest
 
-from wordwishes import arcs, lexicons, lexicontexts, marks, rowtexts, signs, walks
+from wordwishes import (
+    arcs,
+    comings,
+    drawings,
+    lexicons,
+    lexicontexts,
+    marks,
+    rowtexts,
+    sentences,
+    signs,
+    sortedwalks,
+    walks,
+)
 from wordwishes.errors import WishError
 
 THINGS = [
@@ -21,6 +33,7 @@ ORDER = (("a", "b"), ("b", "c"))
 ROW = (("a", 0), ("b", 1), ("a", 0), ("c", 1))
 
 LEXICON = (ORDER, "c", (("w", (ROW, ())), ("v", (ROW[:1],))))
+WORDS = ("w", "v")
 TEXT = "goal c; a < b; b < c; w: a b.r a c.r | 1; v: a"
 
 OF_ANY_THING = [
@@ -32,6 +45,11 @@ OF_ANY_THING = [
     lexicontexts.read_lexicon,
     lambda thing: walks.gone(ORDER, ROW, (("cancel", 0), thing)),
     lambda thing: arcs.is_drawing(ORDER, ROW, thing),
+    lambda thing: drawings.drawing_at(LEXICON, WORDS, thing),
+    lambda thing: drawings.number_of(LEXICON, WORDS, thing),
+    lambda thing: drawings.number_of(LEXICON, WORDS, (thing, ((0, 1),))),
+    lambda thing: drawings.number_of(LEXICON, WORDS, ((1, 0), thing)),
+    lambda thing: sortedwalks.sorted_walk(ORDER, ROW, (("cancel", 0), thing)),
 ]
 
 QUESTIONS = [
@@ -52,6 +70,16 @@ QUESTIONS = [
     lambda: arcs.ways(ORDER, ROW),
     lambda: arcs.why_not(ORDER, ROW),
     lambda: arcs.why_not(ORDER, ROW[1:3]),
+    lambda: sentences.signs_of(LEXICON, WORDS, (0, 0)),
+    lambda: sentences.sentence(LEXICON, WORDS),
+    lambda: sentences.sentence(LEXICON, ("v", "v")),
+    lambda: sentences.sentence(LEXICON, ("v", "w", "w", "v")),
+    lambda: drawings.many(LEXICON, WORDS),
+    lambda: drawings.drawing_at(LEXICON, WORDS, 0),
+    lambda: drawings.number_of(LEXICON, WORDS, ((1, 0), ((0, 1),))),
+    lambda: comings.comes(ORDER, ROW, ROW[1:3]),
+    lambda: comings.comes(ORDER, ROW, ROW[:2]),
+    lambda: sortedwalks.sorted_walk(ORDER, ROW, (("grow", 0, ("a", 1), ("b", 0)), ("cancel", 2))),
 ]
 
 

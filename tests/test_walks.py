@@ -92,6 +92,8 @@ class GoneTest(unittest.TestCase):
 
 
 class NoStepTest(unittest.TestCase):
+    asked = staticmethod(gone)
+
     def refused(self, step, row=ROW, order=ORDER):
         """The step is refused with its number, behind steps that can be gone and ahead of wrong ones."""
         for times in [0, 1, 4]:
@@ -99,7 +101,7 @@ class NoStepTest(unittest.TestCase):
             for behind in [(), (None,), (("order", 0, "a"),)]:
                 with self.subTest(step=repr(step), ahead=len(ahead)):
                     with self.assertRaises(NoStep) as caught:
-                        gone(order, row, ahead + (step,) + behind)
+                        self.asked(order, row, ahead + (step,) + behind)
                     self.assertEqual(caught.exception.number, len(ahead))
 
     def test_cancel_at_places_that_are_not_there(self):
@@ -226,11 +228,11 @@ class NoStepTest(unittest.TestCase):
         grows = tuple([("grow", 0, ("a", 1), ("a", 0))] * 1200)
         for wrong in [("cancel", 2400), ("order", 2400, "a"), ("grow", 2401, ("a", 1), ("a", 0)), ("cancel", 0), None]:
             with self.assertRaises(NoStep) as caught:
-                gone((), (), grows + (wrong, None))
+                self.asked((), (), grows + (wrong, None))
             self.assertEqual(caught.exception.number, 1200)
         walk = (("cancel", 0), ("cancel", 0))
         with self.assertRaises(NoStep) as caught:
-            gone(ORDER, ROW, walk)
+            self.asked(ORDER, ROW, walk)
         self.assertEqual(caught.exception.number, 1)
 
 

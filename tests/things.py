@@ -1,4 +1,4 @@
-"""Things of many kinds, none of them a text, a tuple or a whole number."""
+"""Things of many kinds, and things bent in one place."""
 
 
 class Odd:
@@ -16,7 +16,10 @@ class AlikeToAll:
 
 
 def odd_things():
-    """They are made anew, so that no test meets what another one has changed."""
+    """None of them is a text, a tuple or a whole number.
+
+    They are made anew, so that no test meets what another one has changed.
+    """
     return [
         None,
         True,
@@ -46,3 +49,35 @@ def odd_things():
 NUMBERS = [0, 1, 2, -1, 99, 10**40]
 TEXTS = ["", "a", "ab", "1", "a.r", "goal a", "\n", " ", "~"]
 TUPLES = [(), (None,), ("a",), ("a", 0), (0, 1), ((),), (("a",),), (("a", 0, 0),), ((), ()), ([],)]
+
+
+def bent_number(number):
+    told = [number + 1, number - 1, -number, number + 10**30, str(number), (number,), [number]]
+    return told + ([bool(number)] if number in [0, 1] else [])
+
+
+def bent_text(text):
+    return [text + "x", text[1:], text.upper(), "", (text,), [text]]
+
+
+def bent_tuple(parts):
+    """Parts left out, twice, put in, turned about, and each part bent."""
+    told = [list(parts), (parts,), (), parts + (None,), parts + ((),), parts[::-1]]
+    for at, part in enumerate(parts):
+        told.append(parts[:at] + parts[at + 1 :])
+        told.append(parts[: at + 1] + parts[at:])
+        told.append(parts[:at] + parts[at + 1 : at + 2] + (part,) + parts[at + 2 :])
+        told.extend([parts[:at] + (other,) + parts[at + 1 :] for other in bent(part)])
+    return told
+
+
+def bent(thing):
+    """Things that are like this one but in one place, at any depth; perhaps alike to it."""
+    told = odd_things() + [0, 1, -1, "", "a", (), (0,), (0, 1)]
+    if isinstance(thing, bool):
+        return told + [int(thing), not thing]
+    if isinstance(thing, int):
+        return told + bent_number(thing)
+    if isinstance(thing, str):
+        return told + bent_text(thing)
+    return told + bent_tuple(thing)

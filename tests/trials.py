@@ -1,0 +1,192 @@
+"""Plain trials of all answers, and looks at papers rule by rule, against which the program's answers are held."""
+
+import functools
+import itertools
+
+from wordwishes.signs import cancel
+
+
+def crosses(one, other):
+    return one[0] < other[0] < one[1] < other[1]
+
+
+def pairings(numbers):
+    """All ways to part the numbers into pairs, whatever crosses."""
+    if not numbers:
+        return [()]
+    first, rest = numbers[0], numbers[1:]
+    told = []
+    for at, mate in enumerate(rest):
+        told.extend([((first, mate),) + more for more in pairings(rest[:at] + rest[at + 1 :])])
+    return told
+
+
+@functools.lru_cache(maxsize=None)
+def pairings_that_do_not_cross(many):
+    if many % 2 == 1:
+        return ()
+    return tuple(
+        arcs
+        for arcs in pairings(tuple(range(many)))
+        if not any([crosses(one, other) for one in arcs for other in arcs])
+    )
+
+
+def drawings_by_trial(order, row):
+    """All drawings of the row, by the words of the document, by trial of all pairings."""
+    return [
+        arcs
+        for arcs in pairings_that_do_not_cross(len(row))
+        if all([cancel(order, row[i], row[j]) for i, j in arcs])
+    ]
+
+
+def kinds_in(lexicon, words):
+    """The kinds of each word."""
+    table = dict(lexicon[2])
+    return [table[word] for word in words]
+
+
+def signs_by_hand(lexicon, words, choice):
+    row = ()
+    for kinds, number in zip(kinds_in(lexicon, words), choice):
+        row += kinds[number]
+    return row + ((lexicon[1], 1),)
+
+
+def choices_of(lexicon, words):
+    return list(itertools.product(*[range(len(kinds)) for kinds in kinds_in(lexicon, words)]))
+
+
+def words_drawings_by_trial(lexicon, words):
+    """All drawings of the words, by trial of all choices and all pairings."""
+    return [
+        (choice, arcs)
+        for choice in choices_of(lexicon, words)
+        for arcs in drawings_by_trial(lexicon[0], signs_by_hand(lexicon, words, choice))
+    ]
+
+
+def chance_row(chance, most, marks="abcd", turns=(-2, -1, 0, 1, 2)):
+    many = chance.randrange(most + 1)
+    return tuple([(chance.choice(marks), chance.choice(turns)) for at in range(many)])
+
+
+def chance_lexicon(chance, entries, kinds, signs, marks="abc", turns=(-1, 0, 1)):
+    """A lexicon with words a, b .. of up to so many kinds of up to so many signs."""
+    order = tuple([(chance.choice(marks), chance.choice(marks)) for at in range(chance.randrange(3))])
+    told = []
+    for number in range(entries):
+        rows = []
+        for time in range(chance.randrange(1, kinds + 1)):
+            row = chance_row(chance, signs, marks, turns)
+            if row not in rows:
+                rows.append(row)
+        told.append(("abcdefghij"[number], tuple(rows)))
+    return (order, chance.choice(marks), tuple(told))
+
+
+def hanging_together(order, mark):
+    together = {mark}
+    for time in range(len(order) + 1):
+        for low, high in order:
+            if low in together or high in together:
+                together |= {low, high}
+    return together
+
+
+def is_even_by(order, row, mark):
+    """Whether even and odd turns are as many, of the signs that hang together with the mark."""
+    together = hanging_together(order, mark)
+    turns = [turn for known, turn in row if known in together]
+    return 2 * len([turn for turn in turns if turn % 2 == 0]) == len(turns)
+
+
+class Papers:
+    """Looks at papers, each rule that the document tells; for a TestCase that has this as a base, too."""
+
+    def rises(self, pairs):
+        self.assertIsInstance(pairs, tuple)
+        for pair in pairs:
+            self.assertIsInstance(pair, tuple)
+            self.assertEqual(len(pair), 2)
+        for one, other in zip(pairs, pairs[1:]):
+            self.assertLess(one, other)
+
+    def row_closed_shows(self, order, row, pairs):
+        many = len(row)
+        self.rises(pairs)
+        for i, j in pairs:
+            self.assertEqual({i.__class__, j.__class__}, {int})
+            self.assertTrue(0 <= i <= j <= many)
+        there = set(pairs)
+        for at in range(many + 1):
+            self.assertIn((at, at), there)
+        for i, j in pairs:
+            for k in range(many + 1):
+                if (j, k) in there:
+                    self.assertIn((i, k), there)
+            if i > 0 and j < many and cancel(order, row[i - 1], row[j]):
+                self.assertIn((i - 1, j + 1), there)
+        self.assertNotIn((0, many), there)
+
+    def row_paper_shows(self, order, row, paper):
+        """That the paper shows that the row doesn't cancel wholly."""
+        self.assertIsInstance(paper, tuple)
+        name, told = paper
+        self.assertIn(name, ["closed", "counted"])
+        if name == "closed":
+            self.row_closed_shows(order, row, told)
+        else:
+            self.assertIsInstance(told, str)
+            self.assertFalse(is_even_by(order, row, told))
+
+    def words_closed_shows(self, lexicon, words, pairs):
+        order = lexicon[0]
+        kinds = kinds_in(lexicon, words) + [(((lexicon[1], 1),),)]
+        places = [(w, k, p) for w in range(len(kinds)) for k in range(len(kinds[w])) for p in range(len(kinds[w][k]) + 1)]
+        known = set(places)
+        self.rises(pairs)
+        for pair in pairs:
+            for place in pair:
+                self.assertIsInstance(place, tuple)
+                self.assertEqual({part.__class__ for part in place}, {int})
+                self.assertIn(place, known)
+        there = set(pairs)
+        for place in places:
+            self.assertIn((place, place), there)
+        for w in range(len(kinds) - 1):
+            for k, row in enumerate(kinds[w]):
+                for after in range(len(kinds[w + 1])):
+                    self.assertIn(((w, k, len(row)), (w + 1, after, 0)), there)
+        for x, y in pairs:
+            for z in places:
+                if (y, z) in there:
+                    self.assertIn((x, z), there)
+            (w, k, p), (v, l, q) = x, y
+            if p > 0 and q < len(kinds[v][l]) and cancel(order, kinds[w][k][p - 1], kinds[v][l][q]):
+                self.assertIn(((w, k, p - 1), (v, l, q + 1)), there)
+        for k in range(len(kinds[0])):
+            self.assertNotIn(((0, k, 0), (len(words), 0, 1)), there)
+
+    def words_paper_shows(self, lexicon, words, paper):
+        """That the paper shows that the words are no sentence."""
+        self.assertIsInstance(paper, tuple)
+        name, told = paper
+        self.assertIn(name, ["closed", "counted"])
+        if name == "closed":
+            self.words_closed_shows(lexicon, words, told)
+        else:
+            self.assertIsInstance(told, str)
+            for choice in choices_of(lexicon, words):
+                self.assertFalse(is_even_by(lexicon[0], signs_by_hand(lexicon, words, choice), told))
+
+
+def step_names(walk):
+    return [step[0] for step in walk]
+
+
+def is_sorted_walk(walk):
+    """Whether cancels stand first, then orders, growths last."""
+    names = step_names(walk)
+    return names == sorted(names, key=["cancel", "order", "grow"].index)
