@@ -34,7 +34,7 @@ class ManyTest(unittest.TestCase):
         self.assertEqual(many(lexicon, ("e",) * 8), 0)
 
     def test_several_arcs_of_one_choice(self):
-        lexicon = ((), "a", (("w", ((("a", 0), ("a", 1)),)), ("v", ((("a", 0), ("a", 1), ("a", 2), ("a", 1), ("a", 0)),))))
+        lexicon = read_lexicon("goal a; w: a a.r; v: a a.r a.rr a.r a")
         for times in range(8):
             self.assertEqual(many(lexicon, ("w",) * times + ("v",)), times + 1)
 

@@ -149,7 +149,8 @@ class SentenceTest(Looks, unittest.TestCase):
             self.is_none(read_lexicon(text), ())
 
     def test_far_turns(self):
-        lexicon = ((), "s", (("a", ((("n", 98),),)), ("b", ((("n", 99), ("s", 0), ("n", -99)),)), ("c", ((("n", -98),),))))
+        verb = (("n", 99), ("s", 0), ("n", -99))
+        lexicon = ((), "s", (("a", ((("n", 98),),)), ("b", (verb,)), ("c", ((("n", -98),),))))
         self.is_sentence(lexicon, ("a", "b", "c"))
 
     def test_against_a_trial_of_all(self):
@@ -286,7 +287,8 @@ class PaperTest(Looks, unittest.TestCase):
                 self.closed_of(lexicon, words)
 
     def test_counted_where_no_choice_is_even(self):
-        self.assertEqual(sentence(read_lexicon("goal s; a: s s | s.r s.rrr | 1"), ("a", "a")), ("none", ("counted", "s")))
+        lexicon = read_lexicon("goal s; a: s s | s.r s.rrr | 1")
+        self.assertEqual(sentence(lexicon, ("a", "a")), ("none", ("counted", "s")))
         self.assertEqual(sentence(read_lexicon("goal s; a: s | n s"), ())[1], ("counted", "s"))
         # n and m hang together by o, to which neither is told as the other.
         lexicon = read_lexicon("goal s; n < o; m < o; a: n s m.r")

@@ -72,7 +72,8 @@ class SortedWalkTest(unittest.TestCase):
     def test_an_order_that_leads_round(self):
         order = (("a", "b"), ("b", "a"))
         self.told(order, (("a", 0),), (("order", 0, "b"), ("order", 0, "a"), ("order", 0, "b")))
-        self.told(order, (("a", 0),), (("order", 0, "b"), ("grow", 1, ("a", 1), ("b", 0)), ("cancel", 0), ("order", 0, "a")))
+        walk = (("order", 0, "b"), ("grow", 1, ("a", 1), ("b", 0)), ("cancel", 0), ("order", 0, "a"))
+        self.told(order, (("a", 0),), walk)
 
     def test_far_turns(self):
         self.told((), (("a", 99),), (("grow", 0, ("a", 99), ("a", 98)), ("cancel", 1)))

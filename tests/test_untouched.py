@@ -5,16 +5,20 @@ import unittest
 
 from wordwishes import (
     arcs,
+    changes,
     comings,
     drawings,
     lexicons,
     lexicontexts,
     marks,
+    meanings,
+    plainrows,
     rowtexts,
     sentences,
     signs,
     sortedwalks,
     walks,
+    worlds,
 )
 from wordwishes.errors import WishError
 
@@ -34,6 +38,8 @@ ROW = (("a", 0), ("b", 1), ("a", 0), ("c", 1))
 
 LEXICON = (ORDER, "c", (("w", (ROW, ())), ("v", (ROW[:1],))))
 WORDS = ("w", "v")
+DRAWING = ((1, 0), ((0, 1),))
+WORLD = ("sums", (("a", 1), ("b", 1), ("c", 1)), ((((1, 2),), ((1, 3),)), (((1, 5),),)))
 TEXT = "goal c; a < b; b < c; w: a b.r a c.r | 1; v: a"
 
 OF_ANY_THING = [
@@ -50,6 +56,14 @@ OF_ANY_THING = [
     lambda thing: drawings.number_of(LEXICON, WORDS, (thing, ((0, 1),))),
     lambda thing: drawings.number_of(LEXICON, WORDS, ((1, 0), thing)),
     lambda thing: sortedwalks.sorted_walk(ORDER, ROW, (("cancel", 0), thing)),
+    lambda thing: worlds.is_world(LEXICON, thing),
+    lambda thing: worlds.is_world(LEXICON, WORLD[:2] + (thing,)),
+    lambda thing: meanings.meaning(LEXICON, thing, WORDS, DRAWING),
+    lambda thing: meanings.meaning(LEXICON, WORLD, WORDS, thing),
+    lambda thing: changes.mirrored_drawing(LEXICON, WORDS, thing),
+    lambda thing: changes.put_in(LEXICON, thing, (ROW,)),
+    lambda thing: changes.put_in(LEXICON, "w", thing),
+    lambda thing: changes.put_in(LEXICON, "u", thing),
 ]
 
 QUESTIONS = [
@@ -76,10 +90,20 @@ QUESTIONS = [
     lambda: sentences.sentence(LEXICON, ("v", "w", "w", "v")),
     lambda: drawings.many(LEXICON, WORDS),
     lambda: drawings.drawing_at(LEXICON, WORDS, 0),
-    lambda: drawings.number_of(LEXICON, WORDS, ((1, 0), ((0, 1),))),
+    lambda: drawings.number_of(LEXICON, WORDS, DRAWING),
     lambda: comings.comes(ORDER, ROW, ROW[1:3]),
     lambda: comings.comes(ORDER, ROW, ROW[:2]),
     lambda: sortedwalks.sorted_walk(ORDER, ROW, (("grow", 0, ("a", 1), ("b", 0)), ("cancel", 2))),
+    lambda: plainrows.plain_rows(ORDER, ROW),
+    lambda: plainrows.plain_rows(ORDER, ROW[1:3]),
+    lambda: worlds.is_world(LEXICON, WORLD),
+    lambda: meanings.meaning(LEXICON, WORLD, WORDS, DRAWING),
+    lambda: changes.mirrored(LEXICON),
+    lambda: changes.mirrored_drawing(LEXICON, WORDS, DRAWING),
+    lambda: changes.put_in(LEXICON, "u", (ROW,)),
+    lambda: changes.put_in(LEXICON, "w", (ROW,)),
+    lambda: changes.taken_out(LEXICON, "w"),
+    lambda: changes.shortened(LEXICON),
 ]
 
 

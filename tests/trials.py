@@ -1,8 +1,11 @@
 """Plain trials of all answers, and looks at papers rule by rule, against which the program's answers are held."""
 
+import fractions
 import functools
 import itertools
+import math
 
+from wordwishes.marks import at_most
 from wordwishes.signs import cancel
 
 
@@ -144,7 +147,7 @@ class Papers:
     def words_closed_shows(self, lexicon, words, pairs):
         order = lexicon[0]
         kinds = kinds_in(lexicon, words) + [(((lexicon[1], 1),),)]
-        places = [(w, k, p) for w in range(len(kinds)) for k in range(len(kinds[w])) for p in range(len(kinds[w][k]) + 1)]
+        places = [(w, k, p) for w, rows in enumerate(kinds) for k, row in enumerate(rows) for p in range(len(row) + 1)]
         known = set(places)
         self.rises(pairs)
         for pair in pairs:
@@ -190,3 +193,81 @@ def is_sorted_walk(walk):
     """Whether cancels stand first, then orders, growths last."""
     names = step_names(walk)
     return names == sorted(names, key=["cancel", "order", "grow"].index)
+
+
+def world_by_chance(chance, lexicon, how, sizes=(1, 2, 3)):
+    """A world for the lexicon, by "sums" or by "truths"."""
+    marks = marks_by_hand(lexicon)
+    size_of = {}
+    for mark in marks:
+        if mark not in size_of:
+            size = chance.choice(sizes)
+            size_of.update({other: size for other in hanging_together(lexicon[0], mark)})
+    tables = tuple(
+        tuple(
+            tuple([cell_by_chance(chance, how) for way in ways_to_index(size_of, kind)])
+            for kind in kinds
+        )
+        for word, kinds in lexicon[2]
+    )
+    return (how, tuple([(mark, size_of[mark]) for mark in marks]), tables)
+
+
+def marks_by_hand(lexicon):
+    order, goal, entries = lexicon
+    marks = {goal} | {mark for pair in order for mark in pair}
+    return sorted(marks | {mark for word, kinds in entries for kind in kinds for mark, turn in kind})
+
+
+def ways_to_index(size_of, kind):
+    """All ways to give the signs indices, the last one's going on first."""
+    return list(itertools.product(*[range(size_of[mark]) for mark, turn in kind]))
+
+
+def cell_by_chance(chance, how):
+    if how == "truths":
+        return chance.random() < 0.6
+    told = fractions.Fraction(chance.randrange(-5, 6), chance.randrange(1, 5))
+    return (told.numerator, told.denominator)
+
+
+def is_exactly(thing, kind):
+    return thing.__class__ is kind
+
+
+def is_fraction_by_hand(thing):
+    if not is_exactly(thing, tuple) or len(thing) != 2 or {part.__class__ for part in thing} != {int}:
+        return False
+    top, bottom = thing
+    return bottom >= 1 and math.gcd(top, bottom) == 1 and len(str(abs(top))) <= 30 and len(str(bottom)) <= 30
+
+
+def is_world_by_hand(lexicon, thing):
+    """What the document says of worlds, rule by rule."""
+    if not is_exactly(thing, tuple) or len(thing) != 3:
+        return False
+    how, sizes, tables = thing
+    if not is_exactly(how, str) or how not in ["sums", "truths"]:
+        return False
+    if not is_exactly(sizes, tuple) or not all([is_exactly(part, tuple) and len(part) == 2 for part in sizes]):
+        return False
+    if not all([is_exactly(mark, str) and is_exactly(size, int) and size in [1, 2, 3] for mark, size in sizes]):
+        return False
+    size_of = dict(sizes)
+    marks = marks_by_hand(lexicon)
+    if [mark for mark, size in sizes] != marks:
+        return False
+    if any([at_most(lexicon[0], one, other) and size_of[one] != size_of[other] for one in marks for other in marks]):
+        return False
+    if not is_exactly(tables, tuple) or len(tables) != len(lexicon[2]):
+        return False
+    for (word, kinds), table in zip(lexicon[2], tables):
+        if not is_exactly(table, tuple) or len(table) != len(kinds):
+            return False
+        for kind, cells in zip(kinds, table):
+            if not is_exactly(cells, tuple) or len(cells) != len(ways_to_index(size_of, kind)):
+                return False
+            is_cell = is_fraction_by_hand if how == "sums" else lambda cell: is_exactly(cell, bool)
+            if not all([is_cell(cell) for cell in cells]):
+                return False
+    return True

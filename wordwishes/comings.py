@@ -43,7 +43,7 @@ def walk_by(arcs, one, other):
     many = len(one)
     # The last sign of the wish is that of the other row's first sign.
     last = many + len(other) - 1
-    strands = sorted([(begin, last - end) for begin, end in arcs if begin < many <= end])
+    strands = [(begin, last - end) for begin, end in arcs if begin < many <= end]
     pairs = [(last - end, last - begin) for begin, end in arcs if many <= begin]
     return tuple(cancels_by(arcs, many) + orders_by(strands, one, other) + growths_by(strands, pairs, other))
 

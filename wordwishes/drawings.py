@@ -24,6 +24,12 @@ def is_words_drawing(lexicon, words, thing):
     )
 
 
+def refuse_no_drawing(lexicon, words, thing):
+    """NoDrawing where the thing is no drawing of the words."""
+    if not is_words_drawing(lexicon, words, thing):
+        raise NoDrawing("this is no drawing of these words")
+
+
 def many(lexicon, words):
     """How many drawings the words have; NoWord where a word isn't there."""
     return count_of_all(chart_of(lexicon, words))
@@ -40,6 +46,5 @@ def drawing_at(lexicon, words, number):
 def number_of(lexicon, words, drawing):
     """The number of the drawing; NoWord, then NoDrawing where it is none of these words."""
     chart = chart_of(lexicon, words)
-    if not is_words_drawing(lexicon, words, drawing):
-        raise NoDrawing("this is no drawing of these words")
+    refuse_no_drawing(lexicon, words, drawing)
     return number_by_drawing(chart, drawing)

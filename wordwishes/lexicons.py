@@ -58,6 +58,12 @@ def kinds_of(lexicon, word):
     raise NoWord(word)
 
 
+def refuse_other_words(lexicon, words):
+    """NoWord with the first word that the lexicon doesn't have."""
+    for word in words:
+        kinds_of(lexicon, word)
+
+
 def marks_of(lexicon):
     """The marks of the order, the goal and the kinds, rising, each once."""
     order, goal, entries = lexicon
