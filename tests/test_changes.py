@@ -2,7 +2,7 @@ import copy
 import random
 import unittest
 
-from tests.things import NUMBERS, TEXTS, TUPLES, AlikeToAll, bent, odd_things
+from tests.things import NUMBERS, TEXTS, TUPLES, AlikeToAll, bent, odd_things, unshown_things
 from tests.trials import chance_lexicon, words_drawings_by_trial
 from wordwishes.arcs import is_drawing
 from wordwishes.changes import mirrored, mirrored_drawing, put_in, shortened, taken_out
@@ -186,6 +186,13 @@ class PutInTest(unittest.TestCase):
         for word in odd_things() + NUMBERS + TUPLES + ["", "A", "abcdefghi", "a b", "a\n", "a1", AlikeToAll()]:
             self.refused(word, (N,))
 
+    def test_words_and_kinds_that_cannot_be_shown(self):
+        for thing in unshown_things():
+            for lexicon in [ENGLISH, of_words(1), of_words(10)]:
+                for word, kinds in [(thing, (N,)), ("a", thing), ("john", (thing,)), ("a", ((thing,),)), (thing, thing)]:
+                    with self.assertRaises(NoLexicon):
+                        put_in(lexicon, word, kinds)
+
     def test_kinds_that_are_none(self):
         # The tuple of the tuple without parts is a kind without signs alone.
         tuples = [thing for thing in TUPLES if thing != ((),)]
@@ -238,6 +245,13 @@ class TakenOutTest(unittest.TestCase):
                 with self.assertRaises(NoWord) as caught:
                     taken_out(lexicon, word)
                 self.assertEqual(caught.exception.word, word)
+
+    def test_whatever_is_handed_in_for_the_word(self):
+        for lexicon in [ENGLISH, of_words(1), of_words(10)]:
+            for word in odd_things() + NUMBERS + TUPLES + unshown_things():
+                with self.assertRaises(NoWord) as caught:
+                    taken_out(lexicon, word)
+                self.assertIs(caught.exception.word, word)
 
     def test_sentences_without_the_word_stay(self):
         told = taken_out(put_in(ENGLISH, "mary", (N,)), "oh")

@@ -1,5 +1,6 @@
 import unittest
 
+from tests.things import unshown_things
 from wordwishes import errors
 
 FIELDS = {
@@ -45,6 +46,15 @@ class ErrorsTest(unittest.TestCase):
                 for told in told_things:
                     with self.subTest(name=name, told=told):
                         self.assertIs(getattr(made(name, told), field), told)
+
+    def test_each_can_be_made_and_shown_of_what_cannot_be_shown(self):
+        for name, field in FIELDS.items():
+            if field is not None:
+                for told in unshown_things():
+                    error = made(name, told)
+                    self.assertIs(getattr(error, field), told)
+                    self.assertNotEqual(str(error), "")
+                    self.assertNotEqual(repr(error), "")
 
     def test_each_can_be_raised_and_taken_by_its_name_and_by_the_base(self):
         for name in FIELDS:

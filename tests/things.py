@@ -15,6 +15,28 @@ class AlikeToAll:
         return 0
 
 
+class Silent:
+    """A thing that lets itself be neither compared, nor shown, nor counted."""
+
+    def refuse(self, *things):
+        raise RuntimeError("this thing is not to be asked")
+
+    __eq__ = __ne__ = __lt__ = __gt__ = __hash__ = __repr__ = __str__ = __bool__ = __len__ = __iter__ = refuse
+
+
+def deep(thing, depth):
+    """The thing within so many tuples."""
+    for time in range(depth):
+        thing = (thing,)
+    return thing
+
+
+def unshown_things():
+    """None of them is a word, and none can be shown: numbers of very many figures, and what bears such."""
+    far = 10**5000
+    return [far, -far, (far,), ("w", far), [far], {"w": far}, (("w", ((far,),)),), deep(far, 90), Silent(), (Silent(),)]
+
+
 def odd_things():
     """None of them is a text, a tuple or a whole number.
 

@@ -2,7 +2,7 @@
 
 from wordwishes.drawings import refuse_no_drawing
 from wordwishes.errors import NoLexicon
-from wordwishes.lexicons import is_lexicon, refuse_other_words
+from wordwishes.lexicons import has_word, is_lexicon, refuse_other_words, words_of
 from wordwishes.plainrows import plain_rows
 from wordwishes.sentences import signs_of
 from wordwishes.signs import mirror
@@ -42,11 +42,9 @@ def mirrored_drawing(lexicon, words, drawing):
 def put_in(lexicon, word, kinds):
     """The lexicon with the word and its kinds, at the end or in the word's place; NoLexicon."""
     entry = (word, kinds)
-    known = [one for one, rows in lexicon[2]]
-    if word in known:
-        at = known.index(word)
-        return lexicon_with(lexicon, lexicon[2][:at] + (entry,) + lexicon[2][at + 1 :])
-    return lexicon_with(lexicon, lexicon[2] + (entry,))
+    entries = lexicon[2]
+    at = words_of(lexicon).index(word) if has_word(lexicon, word) else len(entries)
+    return lexicon_with(lexicon, entries[:at] + (entry,) + entries[at + 1 :])
 
 
 def taken_out(lexicon, word):

@@ -1,4 +1,8 @@
-"""The refusals of the program."""
+"""The refusals of the program.
+
+Their words show nothing of what was handed in: not every thing can be shown (a whole number may have too many
+figures for it), and no refusal is to end in another error.
+"""
 
 
 class WishError(ValueError):
@@ -17,7 +21,7 @@ class NoStep(WishError):
     """A walk with a step that can't be gone."""
 
     def __init__(self, number):
-        WishError.__init__(self, f"step {number} can't be gone")
+        WishError.__init__(self, "a step of the walk can't be gone")
         self.number = number
 
 
@@ -25,7 +29,7 @@ class NoWord(WishError):
     """A word that the lexicon doesn't have."""
 
     def __init__(self, word):
-        WishError.__init__(self, f"the lexicon has no word {word!r}")
+        WishError.__init__(self, "the lexicon doesn't have this word")
         self.word = word
 
 
@@ -57,5 +61,5 @@ class NoKept(WishError):
     """A name by which no lexicon is kept."""
 
     def __init__(self, name):
-        WishError.__init__(self, f"no lexicon is kept by the name {name}")
+        WishError.__init__(self, "no lexicon is kept by this name")
         self.name = name

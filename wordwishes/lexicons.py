@@ -50,12 +50,22 @@ def is_lexicon(thing):
     return is_tuple_of(thing, 3) and is_order(thing[0]) and is_mark(thing[1]) and are_entries(thing[2])
 
 
+def words_of(lexicon):
+    """The words of the lexicon, in their order."""
+    return [word for word, kinds in lexicon[2]]
+
+
+def has_word(lexicon, thing):
+    """Whether the thing is a word of the lexicon."""
+    # What is no word isn't compared: a thing of another kind may call itself alike to any text.
+    return is_short_word(thing) and thing in words_of(lexicon)
+
+
 def kinds_of(lexicon, word):
     """The word's kinds; NoWord where the lexicon doesn't have it."""
-    for known, kinds in lexicon[2]:
-        if known == word:
-            return kinds
-    raise NoWord(word)
+    if not has_word(lexicon, word):
+        raise NoWord(word)
+    return lexicon[2][words_of(lexicon).index(word)][1]
 
 
 def refuse_other_words(lexicon, words):
