@@ -5,9 +5,11 @@ import unittest
 
 from wordwishes import (
     arcs,
+    books,
     changes,
     comings,
     drawings,
+    learning,
     lexicons,
     lexicontexts,
     marks,
@@ -64,6 +66,8 @@ OF_ANY_THING = [
     lambda thing: changes.put_in(LEXICON, thing, (ROW,)),
     lambda thing: changes.put_in(LEXICON, "w", thing),
     lambda thing: changes.put_in(LEXICON, "u", thing),
+    lambda thing: changes.taken_out(LEXICON, thing),
+    lambda thing: learning.learnt(LEXICON, thing, (("v",), (thing, "v")), 1),
 ]
 
 QUESTIONS = [
@@ -104,6 +108,11 @@ QUESTIONS = [
     lambda: changes.put_in(LEXICON, "w", (ROW,)),
     lambda: changes.taken_out(LEXICON, "w"),
     lambda: changes.shortened(LEXICON),
+    lambda: books.sentences_of(LEXICON, 2),
+    lambda: books.sentences_of(LEXICON, 0),
+    lambda: books.parting(LEXICON, LEXICON[:2] + (LEXICON[2][:1] + (("v", ((),)),),), 2),
+    lambda: learning.learnt(LEXICON, "u", (("u",), ("w", "u")), 1),
+    lambda: learning.learnt(LEXICON, "u", (("u", "u"),), 0),
 ]
 
 

@@ -70,6 +70,32 @@ def words_drawings_by_trial(lexicon, words):
     ]
 
 
+@functools.lru_cache(maxsize=None)
+def cancels_wholly_by_trial(order, row):
+    """Whether the row comes to the row without signs, by trial of all cancels of neighbours."""
+    if not row:
+        return True
+    return any(
+        cancels_wholly_by_trial(order, row[:at] + row[at + 2 :])
+        for at in range(len(row) - 1)
+        if cancel(order, row[at], row[at + 1])
+    )
+
+
+def is_sentence_by_trial(lexicon, words):
+    """Whether the words are a sentence, by trial of all choices and all cancels."""
+    return any(
+        cancels_wholly_by_trial(lexicon[0], signs_by_hand(lexicon, words, choice))
+        for choice in choices_of(lexicon, words)
+    )
+
+
+def sentences_by_trial(lexicon, length):
+    """All sentences of so many words, by trial of all rows of words."""
+    rows = itertools.product([word for word, kinds in lexicon[2]], repeat=length)
+    return sorted([row for row in rows if is_sentence_by_trial(lexicon, row)])
+
+
 def chance_row(chance, most, marks="abcd", turns=(-2, -1, 0, 1, 2)):
     many = chance.randrange(most + 1)
     return tuple([(chance.choice(marks), chance.choice(turns)) for at in range(many)])

@@ -22,3 +22,19 @@ def is_short_word(thing):
         and 1 <= len(thing) <= MOST_LETTERS
         and all([letter in SMALL_LETTERS for letter in thing])
     )
+
+
+def are_alike(one, other):
+    """Whether two things of any kind are alike; a text is so to a text alone."""
+    if isinstance(one, str) or isinstance(other, str):
+        # A thing of another kind may call itself alike to any text.
+        return isinstance(one, str) and isinstance(other, str) and one == other
+    return one in (other,)
+
+
+def tuples_of(parts, length):
+    """All tuples of so many of the parts, sorted where the parts are."""
+    told = [()]
+    for place in range(length):
+        told = [longer + (part,) for longer in told for part in parts]
+    return told
