@@ -154,7 +154,8 @@ class PartingTest(unittest.TestCase):
     def test_a_word_more_or_fewer(self):
         self.assertEqual(self.by_lengths("goal s; a: s; b: s", "goal s; a: s"), [None] * 5)
         self.assertEqual(
-            self.by_lengths("goal s; a: s; b: n; c: 1", "goal s; d: s; c: 1; b: s"), [None, ("b",), ("b",), ("b",), ("b",)]
+            self.by_lengths("goal s; a: s; b: n; c: 1", "goal s; d: s; c: 1; b: s"),
+            [None, ("b",), ("b",), ("b",), ("b",)],
         )
 
     def test_no_word_is_shared(self):

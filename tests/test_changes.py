@@ -188,8 +188,9 @@ class PutInTest(unittest.TestCase):
 
     def test_words_and_kinds_that_cannot_be_shown(self):
         for thing in unshown_things():
+            asked = [(thing, (N,)), (thing, thing), ("a", thing), ("john", (thing,)), ("a", ((thing,),))]
             for lexicon in [ENGLISH, of_words(1), of_words(10)]:
-                for word, kinds in [(thing, (N,)), ("a", thing), ("john", (thing,)), ("a", ((thing,),)), (thing, thing)]:
+                for word, kinds in asked:
                     with self.assertRaises(NoLexicon):
                         put_in(lexicon, word, kinds)
 

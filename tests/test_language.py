@@ -131,7 +131,7 @@ class LanguageTest(unittest.TestCase):
                     for row in node.body:
                         self.assertIsInstance(row, (ast.FunctionDef, ast.Expr, ast.Pass))
 
-    def test_l6_l7_l20_what_stands_nowhere(self):
+    def test_l6_l7_l20_l27_what_stands_nowhere(self):
         for name, text, tree in self.each():
             for node in ast.walk(tree):
                 self.assertNotIsInstance(node, BARRED_NODES, name)
@@ -144,6 +144,9 @@ class LanguageTest(unittest.TestCase):
                     self.assertIsInstance(node.comparators[0], ast.Constant)
                 if isinstance(node, ast.FormattedValue):
                     self.assertIsNone(node.format_spec)
+                if isinstance(node, ast.BinOp) and isinstance(node.op, ast.Pow):
+                    self.assertIsInstance(node.right, ast.Constant)
+                    self.assertIn(node.right.value, range(65))
 
     def test_l8_l12_l15_l17_names(self):
         for name, text, tree in self.each():

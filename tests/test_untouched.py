@@ -7,13 +7,16 @@ from wordwishes import (
     arcs,
     books,
     changes,
+    checker,
     comings,
+    desk,
     drawings,
     learning,
     lexicons,
     lexicontexts,
     marks,
     meanings,
+    papers,
     plainrows,
     rowtexts,
     sentences,
@@ -68,6 +71,15 @@ OF_ANY_THING = [
     lambda thing: changes.put_in(LEXICON, "u", thing),
     lambda thing: changes.taken_out(LEXICON, thing),
     lambda thing: learning.learnt(LEXICON, thing, (("v",), (thing, "v")), 1),
+    lambda thing: checker.holds(thing, None),
+    lambda thing: checker.holds(("sentence", LEXICON, WORDS), thing),
+    lambda thing: checker.holds(("sentence", LEXICON, thing), DRAWING),
+    lambda thing: checker.holds(("no sentence", LEXICON, ()), ("closed", thing)),
+    lambda thing: checker.holds(("comes", ORDER, ROW, ROW), thing),
+    lambda thing: checker.holds(("means", LEXICON, WORLD, WORDS, DRAWING, thing), None),
+    lambda thing: papers.paper_means(LEXICON, thing, WORDS, DRAWING),
+    lambda thing: papers.paper_means(LEXICON, WORLD, WORDS, thing),
+    lambda thing: desk.Desk().say(thing),
 ]
 
 QUESTIONS = [
@@ -113,6 +125,14 @@ QUESTIONS = [
     lambda: books.parting(LEXICON, LEXICON[:2] + (LEXICON[2][:1] + (("v", ((),)),),), 2),
     lambda: learning.learnt(LEXICON, "u", (("u",), ("w", "u")), 1),
     lambda: learning.learnt(LEXICON, "u", (("u", "u"),), 0),
+    lambda: checker.holds(("sentence", LEXICON, WORDS), DRAWING),
+    lambda: papers.paper_words(LEXICON, WORDS),
+    lambda: papers.paper_words(LEXICON, ("v", "w", "w", "v")),
+    lambda: papers.paper_comes(ORDER, ROW, ROW[:2]),
+    lambda: papers.paper_comes(ORDER, ROW, ROW[1:3]),
+    lambda: papers.paper_means(LEXICON, WORLD, WORDS, DRAWING),
+    lambda: papers.paper_twofold(LEXICON, WORDS),
+    lambda: papers.paper_parted(LEXICON, LEXICON[:2] + (LEXICON[2][:1] + (("v", ((),)),),), 2),
 ]
 
 

@@ -79,12 +79,12 @@ def bent_number(number):
 
 
 def bent_text(text):
-    return [text + "x", text[1:], text.upper(), "", (text,), [text]]
+    return [text + "x", "x" + text, text[1:], text[:-1], text[:-1] + "z", text.upper(), "", (text,), [text], {text: 0}]
 
 
 def bent_tuple(parts):
     """Parts left out, twice, put in, turned about, and each part bent."""
-    told = [list(parts), (parts,), (), parts + (None,), parts + ((),), parts[::-1]]
+    told = [list(parts), dict(enumerate(parts)), (parts,), (), parts + (None,), parts + ((),), parts[::-1]]
     for at, part in enumerate(parts):
         told.append(parts[:at] + parts[at + 1 :])
         told.append(parts[: at + 1] + parts[at:])
@@ -102,4 +102,4 @@ def bent(thing):
         return told + bent_number(thing)
     if isinstance(thing, str):
         return told + bent_text(thing)
-    return told + bent_tuple(thing)
+    return told + bent_tuple(thing) if isinstance(thing, tuple) else told

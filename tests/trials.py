@@ -223,12 +223,16 @@ def is_sorted_walk(walk):
 
 def world_by_chance(chance, lexicon, how, sizes=(1, 2, 3)):
     """A world for the lexicon, by "sums" or by "truths"."""
-    marks = marks_by_hand(lexicon)
     size_of = {}
-    for mark in marks:
+    for mark in marks_by_hand(lexicon):
         if mark not in size_of:
             size = chance.choice(sizes)
             size_of.update({other: size for other in hanging_together(lexicon[0], mark)})
+    return world_with(chance, lexicon, how, size_of)
+
+
+def world_with(chance, lexicon, how, size_of):
+    """A world for the lexicon with these sizes of marks."""
     tables = tuple(
         tuple(
             tuple([cell_by_chance(chance, how) for way in ways_to_index(size_of, kind)])
@@ -236,7 +240,7 @@ def world_by_chance(chance, lexicon, how, sizes=(1, 2, 3)):
         )
         for word, kinds in lexicon[2]
     )
-    return (how, tuple([(mark, size_of[mark]) for mark in marks]), tables)
+    return (how, tuple([(mark, size_of[mark]) for mark in marks_by_hand(lexicon)]), tables)
 
 
 def marks_by_hand(lexicon):
@@ -297,3 +301,50 @@ def is_world_by_hand(lexicon, thing):
             if not all([is_cell(cell) for cell in cells]):
                 return False
     return True
+
+
+def closure(pairs, around):
+    """The least set of pairs with these, closed: linked, and with each pair what is told of it by around."""
+    there = set(pairs)
+    fresh = list(there)
+    while fresh:
+        x, y = fresh.pop()
+        more = {(x, z) for again, z in there if again == y} | {(w, y) for w, again in there if again == x}
+        for pair in (more | set(around(x, y))) - there:
+            there.add(pair)
+            fresh.append(pair)
+    return tuple(sorted(there))
+
+
+def closed_for_row(order, row):
+    """The least closed pairs of a row."""
+    many = len(row)
+
+    def around(i, j):
+        return [(i - 1, j + 1)] if i > 0 and j < many and cancel(order, row[i - 1], row[j]) else []
+
+    return closure([(at, at) for at in range(many + 1)], around)
+
+
+def closed_for_words(lexicon, words, more=()):
+    """The least closed pairs of places of the words, with these more among them."""
+    kinds = kinds_in(lexicon, words) + [(((lexicon[1], 1),),)]
+    pairs = list(more)
+    for w, rows in enumerate(kinds):
+        for k, row in enumerate(rows):
+            pairs.extend([((w, k, p), (w, k, p)) for p in range(len(row) + 1)])
+            if w < len(words):
+                pairs.extend([((w, k, len(row)), (w + 1, l, 0)) for l in range(len(kinds[w + 1]))])
+
+    def around(x, y):
+        (w, k, p), (v, l, q) = x, y
+        if p > 0 and q < len(kinds[v][l]) and cancel(lexicon[0], kinds[w][k][p - 1], kinds[v][l][q]):
+            return [((w, k, p - 1), (v, l, q + 1))]
+        return []
+
+    return closure(pairs, around)
+
+
+def comes_by_trial(order, one, other):
+    """Whether the one row comes to the other, by trial of all cancels of the one with the other's right wish."""
+    return cancels_wholly_by_trial(order, one + tuple([(mark, turn + 1) for mark, turn in other[::-1]]))

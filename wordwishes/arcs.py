@@ -86,11 +86,14 @@ def drawing_of(order, row):
     return tuple(sorted(arcs))
 
 
+def surplus(marks, row):
+    """How many more odd turns than even ones there are, of the signs with one of these marks."""
+    return sum([1 if turn % 2 == 1 else -1 for mark, turn in row if mark in marks])
+
+
 def is_uneven(order, row, mark):
     """Whether even and odd turns are not as many, of the signs that hang together with the mark."""
-    hanging = hanging_with(order, mark)
-    odd = [turn % 2 for known, turn in row if known in hanging]
-    return 2 * sum(odd) != len(odd)
+    return surplus(hanging_with(order, mark), row) != 0
 
 
 def why_not(order, row):

@@ -26,8 +26,7 @@ def learnt(lexicon, word, book, size):
     """All kinds of the fewest signs, up to the size, with which the book's rows are sentences; NoWord, NoLexicon."""
     refuse_other_words_of_book(lexicon, word, book)
     signs = [(mark, turn) for mark in marks_of(lexicon) for turn in TURNS]
-    # Whether the word can be put in at all doesn't hang on the kind.
-    put_in(lexicon, word, ((),))
+    # The first trial, of the kind without signs, refuses a word that can't be put in.
     for many_signs in range(size + 1):
         kinds = [kind for kind in tuples_of(signs, many_signs) if are_sentences(put_in(lexicon, word, (kind,)), book)]
         if len(kinds) > 0:

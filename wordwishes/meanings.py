@@ -3,8 +3,9 @@
 from wordwishes.drawings import refuse_no_drawing
 from wordwishes.errors import NoWorld
 from wordwishes.lexicons import refuse_other_words
+from wordwishes.reckoning import common_bottom, lowest_terms, product, tops_over
 from wordwishes.sentences import signs_of
-from wordwishes.worlds import SUMS, greatest_divisor, is_world
+from wordwishes.worlds import SUMS, is_world
 
 
 class Net:
@@ -55,39 +56,17 @@ def cells_at(net, tables, way):
     return [table[cell_number(net, ends, way)] for table, ends in zip(tables, net.ends)]
 
 
-def product(numbers):
-    """The product of whole numbers."""
-    told = 1
-    for number in numbers:
-        told *= number
-    return told
-
-
-def bottom_for(cells):
-    """The least bottom that all these fractions can have."""
-    told = 1
-    for top, bottom in cells:
-        told *= bottom // greatest_divisor(told, bottom)
-    return told
-
-
-def fraction(top, bottom):
-    """The fraction in lowest terms."""
-    divisor = greatest_divisor(top, bottom)
-    return (top // divisor, bottom // divisor)
-
-
 def sum_at(net, bottoms, tops, index):
     """The sum of the products of cells, tops over their words' bottoms, with this index of the goal."""
     total = sum([product(cells_at(net, tops, way)) for way in ways_with(net, index)])
-    return fraction(total, product(bottoms))
+    return lowest_terms(total, product(bottoms))
 
 
 def sums(net):
     """The sum for each index of the goal."""
     # With one bottom for each word the tops are summed as whole numbers, and what divides is sought but once.
-    bottoms = [bottom_for(cells) for cells in net.cells]
-    tops = [[top * (common // bottom) for top, bottom in cells] for common, cells in zip(bottoms, net.cells)]
+    bottoms = [common_bottom(cells) for cells in net.cells]
+    tops = [tops_over(bottom, cells) for bottom, cells in zip(bottoms, net.cells)]
     return tuple([sum_at(net, bottoms, tops, index) for index in range(net.sizes[net.goal])])
 
 

@@ -1,5 +1,6 @@
 """Words that are sentences, with a drawing, or that are none, with a paper that shows it."""
 
+from wordwishes.arcs import surplus
 from wordwishes.charts import chart_of, count_of_all, drawing_by_number
 from wordwishes.lexicons import kinds_of, marks_of
 from wordwishes.marks import hanging_with
@@ -11,11 +12,6 @@ def signs_of(lexicon, words, choice):
     kinds = [kinds_of(lexicon, word) for word in words]
     signs = [sign for rows, number in zip(kinds, choice) for sign in rows[number]]
     return tuple(signs) + goals_wish(lexicon)
-
-
-def surplus(hanging, row):
-    """How many more odd turns than even ones there are, of the signs with one of these marks."""
-    return sum([1 if turn % 2 == 1 else -1 for mark, turn in row if mark in hanging])
 
 
 def is_always_uneven(order, kinds, mark):

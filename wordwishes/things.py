@@ -14,6 +14,11 @@ def is_tuple_of(thing, many):
     return isinstance(thing, tuple) and len(thing) == many
 
 
+def is_tuple_called(thing, name, many):
+    """Whether the thing is a tuple of so many parts, this text ahead."""
+    return is_tuple_of(thing, many) and are_alike(thing[0], name)
+
+
 def is_short_word(thing):
     """Whether the thing is a text of one to eight small letters."""
     # islower and isalpha would take letters beyond a to z.

@@ -3,18 +3,12 @@
 from wordwishes.errors import NoStep
 from wordwishes.marks import is_mark
 from wordwishes.signs import cancel, is_sign, leads, may_grow
-from wordwishes.things import is_tuple_of, is_whole
+from wordwishes.things import is_tuple_called, is_whole
 
 
 def is_place(thing, most):
     """Whether the thing is a place from 0 to the greatest one."""
     return is_whole(thing) and 0 <= thing <= most
-
-
-def is_step_called(step, name, many):
-    """Whether the step is a tuple of so many parts, this name ahead."""
-    # A thing of another kind may call itself alike to any text.
-    return is_tuple_of(step, many) and isinstance(step[0], str) and step[0] == name
 
 
 def by_cancel(order, signs, place):
@@ -41,11 +35,11 @@ def by_grow(order, signs, place, one, other):
 
 def by_step(order, signs, step):
     """Which stretch gives way to which signs, as (begin, end, put), or None where the step can't be gone."""
-    if is_step_called(step, "cancel", 2):
+    if is_tuple_called(step, "cancel", 2):
         return by_cancel(order, signs, step[1])
-    if is_step_called(step, "order", 3):
+    if is_tuple_called(step, "order", 3):
         return by_order(order, signs, step[1], step[2])
-    if is_step_called(step, "grow", 4):
+    if is_tuple_called(step, "grow", 4):
         return by_grow(order, signs, step[1], step[2], step[3])
     return None
 

@@ -2,19 +2,13 @@
 
 from wordwishes.lexicons import marks_of
 from wordwishes.marks import is_mark
+from wordwishes.reckoning import greatest_divisor, product
 from wordwishes.things import is_tuple_of, is_whole
 
 SUMS = "sums"
 TRUTHS = "truths"
 MOST_SIZE = 3
 LEAST_OF_31_FIGURES = 10 ** 30
-
-
-def greatest_divisor(one, other):
-    """The greatest whole number that divides both, of which not both are 0."""
-    while other != 0:
-        one, other = other, one % other
-    return abs(one)
 
 
 def is_fraction(thing):
@@ -47,10 +41,7 @@ def are_sizes(lexicon, thing):
 
 def ways_to_give_indices(size_of, kind):
     """How many ways there are to give each sign of the kind an index."""
-    many = 1
-    for mark, turn in kind:
-        many *= size_of[mark]
-    return many
+    return product([size_of[mark] for mark, turn in kind])
 
 
 def are_cells(how, many, thing):
